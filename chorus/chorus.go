@@ -1,0 +1,116 @@
+// Package chorus: a text that several peers write: see DOC.md.
+package chorus
+
+import (
+	"slices"
+	"unicode/utf8"
+
+	"chorus/api"
+	"chorus/operation"
+	"chorus/row"
+)
+
+// Peer has a copy of the text.
+type Peer struct {
+	self  byte
+	clock uint32
+	known []uint32 // of each peer, how many operations were delivered; of this one, how many it has made
+	row   row.Row
+}
+
+// New makes a peer (P3).
+func New(peer int, peers int) (*Peer, api.Errno) {
+	if peers < 1 || peers > api.MaxPeers || peer < 0 || peer >= peers {
+		return nil, api.ErrPeer
+	}
+	return &Peer{self: byte(peer), known: make([]uint32, peers)}, api.OK
+}
+
+// Text tells the text (P4).
+func (p *Peer) Text() string {
+	if p == nil { // New gives nil with an error, and no call may panic
+		return ""
+	}
+	return p.row.Text()
+}
+
+// Known tells how many operations of each peer were delivered (P4).
+func (p *Peer) Known() []int {
+	if p == nil {
+		return nil
+	}
+	known := make([]int, len(p.known))
+	for i, n := range p.known {
+		known[i] = int(n)
+	}
+	return known
+}
+
+// Insert puts a character in (P5).
+func (p *Peer) Insert(at int, r rune) (string, api.Errno) {
+	if p == nil {
+		return "", api.ErrPeer
+	}
+	behind, found := p.nameBehind(at)
+	if !found {
+		return "", api.ErrPlace
+	}
+	if !utf8.ValidRune(r) {
+		return "", api.ErrRune
+	}
+	return p.perform(operation.Operation{Kind: operation.Insertion, Target: behind, Char: r})
+}
+
+// Delete takes a character out (P6).
+func (p *Peer) Delete(at int) (string, api.Errno) {
+	if p == nil {
+		return "", api.ErrPeer
+	}
+	target, found := p.row.NameAt(at)
+	if !found {
+		return "", api.ErrPlace
+	}
+	return p.perform(operation.Operation{Kind: operation.Deletion, Target: target})
+}
+
+// Receive takes packets (P7). It answers nothing yet.
+func (p *Peer) Receive(packets ...string) (int, api.Errno) { return 0, api.OK }
+
+// Rest tells the packets that another one has not got (P10). It answers nothing yet.
+func (p *Peer) Rest(known []int) ([]string, api.Errno) { return nil, api.OK }
+
+// nameBehind tells behind which element a character goes that is put in at a place.
+func (p *Peer) nameBehind(at int) (operation.Name, bool) {
+	if at <= 0 {
+		return operation.Name{}, at == 0
+	}
+	return p.row.NameAt(at - 1)
+}
+
+// perform makes an operation of this peer's own out of what it is to do, and delivers it.
+func (p *Peer) perform(o operation.Operation) (string, api.Errno) {
+	if p.known[p.self] >= api.MaxOps {
+		return "", api.ErrFull
+	}
+	if p.clock == api.MaxClock {
+		return "", api.ErrClock
+	}
+	o.Peer = p.self
+	o.Number = p.known[p.self] + 1
+	o.Clock = p.clock + 1
+	o.Seen = slices.Clone(p.known)
+	p.deliver(o)
+	return o.Packet(), api.OK
+}
+
+// deliver does what P8 says; that the operation can be delivered is the caller's to know.
+func (p *Peer) deliver(o operation.Operation) {
+	p.clock = max(p.clock, o.Clock)
+	p.known[o.Peer]++
+	switch o.Kind {
+	case operation.Insertion:
+		p.row.Insert(o.Name(), o.Target, o.Char)
+	case operation.Deletion:
+		p.row.Kill(o.Target)
+	}
+}
