@@ -12,10 +12,11 @@ import (
 
 // Peer has a copy of the text.
 type Peer struct {
-	self  byte
-	clock uint32
-	known []uint32 // of each peer, how many operations were delivered; of this one, how many it has made
-	row   row.Row
+	self    byte
+	clock   uint32
+	known   []uint32 // of each peer, how many operations were delivered; of this one, how many it has made
+	row     row.Row
+	waiting []operation.Operation // in the peers' order, MaxHeld at most
 }
 
 // New makes a peer (P3).
@@ -73,9 +74,6 @@ func (p *Peer) Delete(at int) (string, api.Errno) {
 	return p.perform(operation.Operation{Kind: operation.Deletion, Target: target})
 }
 
-// Receive takes packets (P7). It answers nothing yet.
-func (p *Peer) Receive(packets ...string) (int, api.Errno) { return 0, api.OK }
-
 // Rest tells the packets that another one has not got (P10). It answers nothing yet.
 func (p *Peer) Rest(known []int) ([]string, api.Errno) { return nil, api.OK }
 
@@ -87,7 +85,8 @@ func (p *Peer) nameBehind(at int) (operation.Name, bool) {
 	return p.row.NameAt(at - 1)
 }
 
-// perform makes an operation of this peer's own out of what it is to do, and delivers it.
+// perform makes an operation of this peer's own out of what it is to do, and delivers it;
+// what waited for it alone goes behind it.
 func (p *Peer) perform(o operation.Operation) (string, api.Errno) {
 	if p.known[p.self] >= api.MaxOps {
 		return "", api.ErrFull
@@ -100,17 +99,6 @@ func (p *Peer) perform(o operation.Operation) (string, api.Errno) {
 	o.Clock = p.clock + 1
 	o.Seen = slices.Clone(p.known)
 	p.deliver(o)
+	p.deliverWaiting()
 	return o.Packet(), api.OK
-}
-
-// deliver does what P8 says; that the operation can be delivered is the caller's to know.
-func (p *Peer) deliver(o operation.Operation) {
-	p.clock = max(p.clock, o.Clock)
-	p.known[o.Peer]++
-	switch o.Kind {
-	case operation.Insertion:
-		p.row.Insert(o.Name(), o.Target, o.Char)
-	case operation.Deletion:
-		p.row.Kill(o.Target)
-	}
 }

@@ -7,7 +7,6 @@ import (
 	"testing"
 
 	"chorus/api"
-	"chorus/operation"
 )
 
 func TestNewRefuses(t *testing.T) {
@@ -180,42 +179,39 @@ func TestMaxOps(t *testing.T) {
 // MaxOps bounds what the peer made, not what was delivered to it.
 func TestMaxOpsIsOfThePeerItself(t *testing.T) {
 	p := newPeer(t, 0, 2)
-	for i := range uint32(api.MaxOps) {
-		p.deliver(operation.Operation{Kind: operation.Insertion, Peer: 1, Number: i + 1, Clock: i + 1, Char: 'a'})
+	for i := range api.MaxOps + 1 { // and what others made is not bounded by it
+		receive(t, p, 1, packet(1, 1, uint32(i+1), uint32(i+1), []int{0, i}, 0, 0, 'a'))
 	}
-	wantPacket(t, insert(t, p, 0, 'b'), packet(1, 0, 1, api.MaxOps+1, []int{0, api.MaxOps}, 0, 0, 'b'))
+	wantPacket(t, insert(t, p, 0, 'b'), packet(1, 0, 1, api.MaxOps+2, []int{0, api.MaxOps + 1}, 0, 0, 'b'))
 }
 
 func TestClockEnds(t *testing.T) {
-	p := newPeer(t, 0, 1)
-	insert(t, p, 0, 'a')
-	p.clock = api.MaxClock - 2
-	wantPacket(t, remove(t, p, 0), packet(2, 0, 2, api.MaxClock-1, []int{1}, 1, 0))
-	wantPacket(t, insert(t, p, 0, 'b'), packet(1, 0, 3, api.MaxClock, []int{2}, 0, 0, 'b'))
-	s, e := p.Insert(0, 'c')
-	wantRefused(t, "P5: Insert at MaxClock", s, e, api.ErrClock)
-	s, e = p.Delete(0)
-	wantRefused(t, "P6: Delete at MaxClock", s, e, api.ErrClock)
-	wantState(t, p, "b", 3)
-	if p.clock != api.MaxClock {
-		t.Errorf("P1: an error changed the clock: %d", p.clock)
+	p := newPeer(t, 0, 2)
+	receive(t, p, 1, packet(1, 1, 1, api.MaxClock-2, []int{0, 0}, 0, 0, 'a'))
+	wantPacket(t, remove(t, p, 0), packet(2, 0, 1, api.MaxClock-1, []int{0, 1}, api.MaxClock-2, 1))
+	wantPacket(t, insert(t, p, 0, 'b'), packet(1, 0, 2, api.MaxClock, []int{1, 1}, 0, 0, 'b'))
+	for range 2 { // an error changes the clock neither
+		s, e := p.Insert(0, 'c')
+		wantRefused(t, "P5: Insert at MaxClock", s, e, api.ErrClock)
+		s, e = p.Delete(0)
+		wantRefused(t, "P6: Delete at MaxClock", s, e, api.ErrClock)
 	}
+	wantState(t, p, "b", 2, 1)
+	receive(t, p, 1, packet(2, 1, 2, 1, []int{2, 1}, api.MaxClock, 0)) // what is received still goes
+	wantState(t, p, "", 2, 2)
 }
 
 // What other peers did is told by the packets that are made behind it.
 func TestBehindOthersOperations(t *testing.T) {
 	p := newPeer(t, 1, 3)
 	insert(t, p, 0, 'x')
-	p.deliver(operation.Operation{Kind: operation.Insertion, Peer: 0, Number: 1, Clock: 1, Char: 'a'})
+	receive(t, p, 1, packet(1, 0, 1, 1, []int{0, 0, 0}, 0, 0, 'a'))
 	wantState(t, p, "xa", 1, 1, 0)
-	p.deliver(operation.Operation{
-		Kind: operation.Insertion, Peer: 0, Number: 2, Clock: 2,
-		Target: operation.Name{Clock: 1, Peer: 0}, Char: 'b',
-	})
+	receive(t, p, 1, packet(1, 0, 2, 2, []int{1, 0, 0}, 1, 0, 'b'))
 	wantState(t, p, "xab", 2, 1, 0)
 	wantPacket(t, insert(t, p, 1, 'y'), packet(1, 1, 2, 3, []int{2, 1, 0}, 1, 1, 'y'))
 	wantPacket(t, remove(t, p, 2), packet(2, 1, 3, 4, []int{2, 2, 0}, 1, 0))
-	p.deliver(operation.Operation{Kind: operation.Deletion, Peer: 2, Number: 1, Clock: 1, Target: operation.Name{Clock: 3, Peer: 1}})
+	receive(t, p, 1, packet(2, 2, 1, 1, []int{0, 2, 0}, 3, 1))
 	wantState(t, p, "xb", 2, 3, 1)
 	wantPacket(t, insert(t, p, 2, 'z'), packet(1, 1, 4, 5, []int{2, 3, 1}, 2, 0, 'z')) // a lesser clock sets none back
 }
@@ -284,27 +280,34 @@ func TestNoPeerAnswersNothing(t *testing.T) {
 	wantRefused(t, "P1: Insert of no peer", s, e, api.ErrPeer)
 	s, e = p.Delete(0)
 	wantRefused(t, "P1: Delete of no peer", s, e, api.ErrPeer)
+	wantReceived(t, p, 0, api.ErrPeer, packet(1, 0, 1, 1, []int{0}, 0, 0, 'a'))
 }
 
 // Every choice of what is wrong, against the document's order of the errors.
 func TestTheFirstErrorIsAnswered(t *testing.T) {
 	for wrong := range 16 {
 		place, char, full, clock := wrong&1 != 0, wrong&2 != 0, wrong&4 != 0, wrong&8 != 0
-		p := newPeer(t, 0, 1)
+		p := newPeer(t, 0, 2)
 		insert(t, p, 0, 'a')
 		at, r, want := 0, 'b', api.OK
-		if clock {
-			p.clock, want = api.MaxClock, api.ErrClock
-		}
 		if full {
-			p.known[0], want = api.MaxOps, api.ErrFull
+			for range api.MaxOps - 1 {
+				insert(t, p, 0, 'f')
+			}
+			want = api.ErrFull
+		}
+		if clock {
+			receive(t, p, 1, packet(2, 1, 1, api.MaxClock, []int{0, 0}, 1, 1))
+		}
+		if clock && !full {
+			want = api.ErrClock
 		}
 		wantDelete := want
 		if char {
 			r, want = 55296, api.ErrRune
 		}
 		if place {
-			at, want, wantDelete = 2, api.ErrPlace, api.ErrPlace
+			at, want, wantDelete = api.MaxOps+1, api.ErrPlace, api.ErrPlace
 		}
 		if s, e := p.Insert(at, r); e != want || (s == "") != (want != api.OK) {
 			t.Errorf("P1, P5: wrong %04b: Insert = %q, %d, want %d", wrong, s, e, want)

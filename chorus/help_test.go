@@ -41,6 +41,19 @@ func remove(t *testing.T, p *Peer, at int) string {
 	return s
 }
 
+// receive hands packets in of which none is refused.
+func receive(t *testing.T, p *Peer, delivered int, packets ...string) {
+	t.Helper()
+	wantReceived(t, p, delivered, api.OK, packets...)
+}
+
+func wantReceived(t *testing.T, p *Peer, delivered int, want api.Errno, packets ...string) {
+	t.Helper()
+	if n, e := p.Receive(packets...); n != delivered || e != want {
+		t.Errorf("P7: Receive = %d, %d, want %d, %d", n, e, delivered, want)
+	}
+}
+
 func wantState(t *testing.T, p *Peer, text string, known ...int) {
 	t.Helper()
 	if got := p.Text(); got != text {
