@@ -2,10 +2,10 @@
 package chorus
 
 import (
-	"slices"
 	"unicode/utf8"
 
 	"chorus/api"
+	"chorus/history"
 	"chorus/operation"
 	"chorus/row"
 )
@@ -14,7 +14,7 @@ import (
 type Peer struct {
 	self    byte
 	clock   uint32
-	known   []uint32 // of each peer, how many operations were delivered; of this one, how many it has made
+	history history.History // what was delivered, of this peer itself all that it has made
 	row     row.Row
 	waiting []operation.Operation // in the peers' order, MaxHeld at most
 }
@@ -24,7 +24,7 @@ func New(peer int, peers int) (*Peer, api.Errno) {
 	if peers < 1 || peers > api.MaxPeers || peer < 0 || peer >= peers {
 		return nil, api.ErrPeer
 	}
-	return &Peer{self: byte(peer), known: make([]uint32, peers)}, api.OK
+	return &Peer{self: byte(peer), history: history.New(peers)}, api.OK
 }
 
 // Text tells the text (P4).
@@ -40,9 +40,9 @@ func (p *Peer) Known() []int {
 	if p == nil {
 		return nil
 	}
-	known := make([]int, len(p.known))
-	for i, n := range p.known {
-		known[i] = int(n)
+	known := make([]int, p.history.Peers())
+	for peer, n := range p.history.Counts() {
+		known[peer] = int(n)
 	}
 	return known
 }
@@ -74,9 +74,6 @@ func (p *Peer) Delete(at int) (string, api.Errno) {
 	return p.perform(operation.Operation{Kind: operation.Deletion, Target: target})
 }
 
-// Rest tells the packets that another one has not got (P10). It answers nothing yet.
-func (p *Peer) Rest(known []int) ([]string, api.Errno) { return nil, api.OK }
-
 // nameBehind tells behind which element a character goes that is put in at a place.
 func (p *Peer) nameBehind(at int) (operation.Name, bool) {
 	if at <= 0 {
@@ -88,16 +85,17 @@ func (p *Peer) nameBehind(at int) (operation.Name, bool) {
 // perform makes an operation of this peer's own out of what it is to do, and delivers it;
 // what waited for it alone goes behind it.
 func (p *Peer) perform(o operation.Operation) (string, api.Errno) {
-	if p.known[p.self] >= api.MaxOps {
+	made := p.history.Count(p.self)
+	if made >= api.MaxOps {
 		return "", api.ErrFull
 	}
 	if p.clock == api.MaxClock {
 		return "", api.ErrClock
 	}
 	o.Peer = p.self
-	o.Number = p.known[p.self] + 1
+	o.Number = made + 1
 	o.Clock = p.clock + 1
-	o.Seen = slices.Clone(p.known)
+	o.Seen = p.history.Counts()
 	p.deliver(o)
 	p.deliverWaiting()
 	return o.Packet(), api.OK

@@ -281,6 +281,8 @@ func TestNoPeerAnswersNothing(t *testing.T) {
 	s, e = p.Delete(0)
 	wantRefused(t, "P1: Delete of no peer", s, e, api.ErrPeer)
 	wantReceived(t, p, 0, api.ErrPeer, packet(1, 0, 1, 1, []int{0}, 0, 0, 'a'))
+	wantNoRest(t, p, nil)
+	wantNoRest(t, p, []int{0})
 }
 
 // Every choice of what is wrong, against the document's order of the errors.

@@ -53,6 +53,7 @@ type copyModel struct {
 	known       []int
 	cells       []cell
 	held        map[[2]int]wire
+	delivered   []wire // as they came to be
 }
 
 func (m *copyModel) can(w wire) bool {
@@ -70,6 +71,7 @@ func (m *copyModel) place(clock, peer int) int {
 
 func (m *copyModel) deliver(w wire) {
 	m.known[w.peer]++
+	m.delivered = append(m.delivered, w)
 	m.clock = max(m.clock, w.clock)
 	at := m.place(w.targetClock, w.targetPeer)
 	if w.kind == 2 {
@@ -126,6 +128,25 @@ func (m *copyModel) receive(list []wire) (int, api.Errno) {
 		m.held[key] = w
 	}
 	return n, api.OK
+}
+
+// rest looks again and again through all that was delivered for each peer's next one.
+func (m *copyModel) rest(known []int) []string {
+	next := slices.Clone(known)
+	var told []string
+	for {
+		var least *wire
+		for i, w := range m.delivered {
+			if w.number == next[w.peer]+1 && (least == nil || w.clock*8+w.peer < least.clock*8+least.peer) {
+				least = &m.delivered[i]
+			}
+		}
+		if least == nil {
+			return told
+		}
+		next[least.peer]++
+		told = append(told, least.packet())
+	}
 }
 
 func (m *copyModel) living() []cell {
@@ -244,6 +265,28 @@ func drawOwn(t *testing.T, r *rand.Rand, p *Peer, m *copyModel) api.Errno {
 	return e
 }
 
+// drawRest asks the peer and the model for the same, and tells whether it was refused.
+func drawRest(t *testing.T, r *rand.Rand, p *Peer, m *copyModel) api.Errno {
+	t.Helper()
+	var known []int
+	for _, n := range m.known {
+		known = append(known, max(0, r.Intn(n+3)-1))
+	}
+	switch r.Intn(30) {
+	case 0:
+		known = append(known, 0)
+	case 1:
+		known = known[1:]
+	case 2:
+		known[r.Intn(len(known))] = -1
+	default:
+		wantRest(t, p, known, m.rest(known)...)
+		return api.OK
+	}
+	wantNoRest(t, p, known)
+	return api.ErrPeer
+}
+
 // TestDrawnPackets holds a peer against the model, over strange packets and own calls.
 func TestDrawnPackets(t *testing.T) {
 	r := rand.New(rand.NewSource(3))
@@ -253,9 +296,12 @@ func TestDrawnPackets(t *testing.T) {
 		m := &copyModel{self: r.Intn(peers), known: make([]int, peers), held: map[[2]int]wire{}}
 		p := newPeer(t, m.self, peers)
 		for range 80 {
-			if r.Intn(4) == 0 {
+			switch r.Intn(8) {
+			case 0, 1:
 				met[drawOwn(t, r, p, m)]++
-			} else {
+			case 2:
+				met[drawRest(t, r, p, m)]++
+			default:
 				n, e := drawReceive(t, r, p, m, spread)
 				met[e]++
 				most = max(most, n)
@@ -263,7 +309,7 @@ func TestDrawnPackets(t *testing.T) {
 			wantState(t, p, m.text(), m.known...)
 		}
 	}
-	for _, e := range []api.Errno{api.OK, api.ErrPacket, api.ErrFull, api.ErrClock} {
+	for _, e := range []api.Errno{api.OK, api.ErrPeer, api.ErrPacket, api.ErrFull, api.ErrClock} {
 		if met[e] < 100 {
 			t.Errorf("the draw met the error %d only %d times", e, met[e])
 		}
@@ -294,14 +340,35 @@ func drawCall(t *testing.T, r *rand.Rand, p *Peer, packets []string) []string {
 	return packets
 }
 
+// wantCaughtUp lets one that never wrote receive what each of its group tells it, one behind the other: all goes at once.
+func wantCaughtUp(t *testing.T, group []*Peer) {
+	t.Helper()
+	late := newPeer(t, len(group)-1, len(group))
+	for _, p := range group {
+		told, e := p.Rest(late.Known())
+		if e != api.OK {
+			t.Fatalf("P10: Rest(%v): error %d", late.Known(), e)
+		}
+		for _, s := range told {
+			receive(t, late, 1, s)
+		}
+		for q, n := range p.Known() {
+			if late.Known()[q] < n {
+				t.Fatalf("P10: behind the rest %v are known, of %v", late.Known(), p.Known())
+			}
+		}
+		wantRest(t, p, late.Known())
+	}
+}
+
 // TestDrawnGroups: who has got the same operations has the same text, while they come and at the end.
 func TestDrawnGroups(t *testing.T) {
 	r := rand.New(rand.NewSource(4))
 	for range 60 {
 		peers := 2 + r.Intn(4)
 		var group []*Peer
-		for i := range peers {
-			group = append(group, newPeer(t, i, peers))
+		for i := range peers + 1 { // the last one never writes
+			group = append(group, newPeer(t, i, peers+1))
 		}
 		var packets []string
 		texts := map[[api.MaxPeers]int]string{}
@@ -315,6 +382,7 @@ func TestDrawnGroups(t *testing.T) {
 			}
 			texts[known] = p.Text()
 		}
+		wantCaughtUp(t, group)
 		for _, p := range group {
 			for range len(packets) { // each time the next one comes to pass, if nothing else does
 				for _, i := range r.Perm(len(packets)) {

@@ -24,11 +24,11 @@ func (p *Peer) Receive(packets ...string) (int, api.Errno) {
 }
 
 func (p *Peer) receiveOne(packet string) (int, api.Errno) {
-	o, right := operation.Read(packet, len(p.known))
+	o, right := operation.Read(packet, p.history.Peers())
 	switch {
-	case !right || o.Peer == p.self && o.Number > p.known[p.self]:
+	case !right || o.Peer == p.self && o.Number > p.history.Count(p.self):
 		return 0, api.ErrPacket
-	case o.Number <= p.known[o.Peer] || p.waitsAlready(o):
+	case o.Number <= p.history.Count(o.Peer) || p.waitsAlready(o):
 		return 0, api.OK
 	case p.canDeliver(o):
 		p.deliver(o)
@@ -58,11 +58,11 @@ func (p *Peer) wait(o operation.Operation) {
 // canDeliver is P9's; of the operation's own peer Seen says no more than its number does.
 func (p *Peer) canDeliver(o operation.Operation) bool {
 	for peer, n := range o.Seen {
-		if p.known[peer] < n {
+		if p.history.Count(byte(peer)) < n {
 			return false
 		}
 	}
-	return o.Number == p.known[o.Peer]+1
+	return o.Number == p.history.Count(o.Peer)+1
 }
 
 // deliverWaiting delivers what can be of what waits, and tells how many it could.
@@ -86,7 +86,7 @@ again:
 // deliver does what P8 says; that the operation can be delivered is the caller's to know.
 func (p *Peer) deliver(o operation.Operation) {
 	p.clock = max(p.clock, o.Clock)
-	p.known[o.Peer]++
+	p.history.Add(o)
 	switch o.Kind {
 	case operation.Insertion:
 		p.row.Insert(o.Name(), o.Target, o.Char)

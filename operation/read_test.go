@@ -133,3 +133,31 @@ func TestReadRefusesSpoiltBytes(t *testing.T) {
 		}
 	}
 }
+
+// Whatever a right packet's bytes are, the operation that was read writes the same ones: nothing of them is lost.
+func TestReadLosesNoByte(t *testing.T) {
+	for _, o := range []Operation{
+		{Insertion, 1, 2, 3, []uint32{4, 1, 5}, Name{2, 2}, 'a'},
+		{Insertion, 0, 1, 1, []uint32{0, 0, 0}, Name{}, 0},
+		{Deletion, 1, 2, 3, []uint32{4, 1, 5}, Name{2, 2}, 0},
+	} {
+		rights, size := 0, len(o.Packet())-4
+		for i := range size {
+			for by := range 256 {
+				b := []byte(o.Packet()[:size])
+				b[i] = byte(by)
+				s := summed(b)
+				got, right := Read(s, 3)
+				if right && got.Packet() != s {
+					t.Errorf("P10: %v is read as %v", []byte(s), got)
+				}
+				if right {
+					rights++
+				}
+			}
+		}
+		if rights < 2000 {
+			t.Errorf("%d of the packets are right only", rights)
+		}
+	}
+}
